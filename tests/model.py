@@ -234,6 +234,11 @@ def blocks_up_to(many):
     return plain + [scrambled(turn, seed) for seed, turn in enumerate(plain)]
 
 
+def blocks_in_plenty():
+    """All blocks of no more than six ties, twice, and some of seven ties."""
+    return blocks_up_to(6) + [scrambled(turn, seed) for seed, turn in enumerate(block_names(7))][::3]
+
+
 def grown(many, seed, stretch=0.5):
     """Some block of so many ties."""
     luck, turn = Random(seed), (2, 3, 0, 1)
@@ -284,6 +289,7 @@ def _in_one_piece(turn, ties):
     return len(found) == len(ties)
 
 
+@lru_cache(None)
 def rings(turn):
     found = []
     for ties in subsets(range(len(turn) // 2)):

@@ -57,7 +57,7 @@ class Blocks(unittest.TestCase):
 class Built(unittest.TestCase):
 
     def test_rows_done(self):
-        for seed in range(40):
+        for seed in range(15):
             luck, turn, rows = Random(seed), TWO, []
             self.assertEqual(build(rows).turn(), turn)
             for _ in range(12):

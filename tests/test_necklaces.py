@@ -7,7 +7,7 @@ from neverfewer.necklaces import bunches, necklaces
 from neverfewer.webs import Web, about, behind
 from wrong import check_kept, check_wrong, webs_and
 
-BLOCKS = model.blocks_up_to(7) + [model.grown(many, seed, 0.6) for many in range(8, 15) for seed in range(4)]
+BLOCKS = model.blocks_in_plenty() + [model.grown(many, seed, 0.6) for many in range(8, 15) for seed in range(4)]
 NO_BLOCKS = [(), (0, 1), (1, 0), (2, 1, 3, 0), (6, 3, 0, 1, 2, 7, 4, 5), model.star(5)]
 
 
