@@ -75,7 +75,7 @@ def rotated(cycle, dart):
 def changed(cycles, changes):
     """The cycles with each run of the pairs (run, new) exchanged for the new darts.
 
-    A run are darts that stand together; of each cycle one run is exchanged at most.
+    A run is a row of darts that stand together; in each cycle one run is exchanged at most.
     """
     return [_changed_cycle(cycle, changes) for cycle in cycles]
 

@@ -6,7 +6,7 @@ from neverfewer.edits import are_facing, laid, shrunk, stretched, taken
 from neverfewer.errors import InvalidBuild, NotBlock, NotChart, TooMany
 from neverfewer.joints import joints, shares
 from neverfewer.names import is_carrying
-from neverfewer.values import is_below, is_list, is_ties, is_word, other_ties
+from neverfewer.values import are_below, is_below, is_list, is_ties, is_word, other_ties
 from neverfewer.webs import MOST_TIES, Web, check_web, is_chart
 
 FIRST_TURN = (2, 3, 0, 1)
@@ -27,6 +27,7 @@ def check_block(web):
 
 
 def _check_chart(web):
+    """Raises InvalidWeb unless it is a Web, NotChart unless it is a chart."""
     if not is_chart(web):
         raise NotChart()
 
@@ -79,7 +80,6 @@ def build(rows):
 
 def block_paper(web):
     """A block paper of the chart."""
-    check_web(web)
     _check_chart(web)
     parting = joints(web)
     if parting:
@@ -150,7 +150,6 @@ def _lay_back(web, tie, darts):
 
 def is_block_paper(web, value):
     """Whether any value is a block paper of the chart."""
-    check_web(web)
     _check_chart(web)
     if not isinstance(value, tuple) or len(value) != 3:
         return False
@@ -169,16 +168,13 @@ def _is_built_like(web, rows, darts):
 def _is_parted(web, place, ties):
     if not _is_place(web, place) or not is_ties(ties, web.many):
         return False
-    if len(ties) in (0, web.many):
-        return False
+    # Where the ties are none or all, no place has darts of both.
     return _places_shared(web, ties, other_ties(web.many, ties)) == [place]
 
 
 def _is_place(web, value):
     """Whether any value is a place, as it is told."""
-    if not isinstance(value, tuple) or not value or not is_below(value[0], 2 * web.many):
-        return False
-    return all([is_below(dart, 2 * web.many) for dart in value]) and value == web.place(value[0])
+    return isinstance(value, tuple) and are_below(value, 2 * web.many) and value in web.places()
 
 
 def _places_shared(web, ties, others):

@@ -20,7 +20,8 @@ def reached(web, ties, barred):
         for dart in (2 * tie, 2 * tie + 1):
             place = web.place(dart)
             if place not in barred:
-                found.extend(sorted(set([one // 2 for one in place if one // 2 not in found])))
+                news = [one // 2 for one in place if one // 2 not in found]
+                found.extend(sorted(set(news)))
         done += 1
     return tuple(sorted(found))
 

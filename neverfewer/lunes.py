@@ -1,6 +1,6 @@
 """Blocks cut along lines from one place to an other through the faces that both have."""
 
-from neverfewer.cycles import positions, rotated
+from neverfewer.cycles import positions
 from neverfewer.joints import reached
 
 
@@ -20,15 +20,7 @@ def _lunes_between(web, one, other):
     """The ties between each common face and the next one, as they follow one another at one."""
     faces = positions(web.faces())
     there = [faces[dart] for dart in other]
-    # In a block no face has two darts of one place, so each common face has one of them.
+    # In a block no face has two darts of one place, so each common face has one of them. Ties
+    # between two such faces hang together without both places: else one more face would have both.
     firsts = [dart for dart in one if faces[dart] in there]
-    return [_lune(web, one, other, firsts, first) for first in firsts]
-
-
-def _lune(web, one, other, firsts, first):
-    run = [first]
-    for dart in rotated(one, first)[1:]:
-        if dart in firsts:
-            break
-        run.append(dart)
-    return reached(web, [dart // 2 for dart in run], [one, other])
+    return [reached(web, [dart // 2], [one, other]) for dart in firsts]

@@ -80,9 +80,7 @@ def is_carrying(web, other, value):
     """Whether any value is a carrying from web to other."""
     check_web(web)
     check_web(other)
-    if web.many != other.many or not is_calling(web, value):
-        return False
-    return called_turn(web.turn(), value) == other.turn()
+    return is_calling(web, value) and called_turn(web.turn(), value) == other.turn()
 
 
 def is_calling(web, value):

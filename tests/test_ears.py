@@ -197,6 +197,7 @@ class Papers(unittest.TestCase):
         check_bools(self, lambda value: is_block_paper(chain, value), [
             ("parted", (False, 6, 4, 2), (0, 1)), ("parted", (0, 6, 4, 2), (False, True)),
             ("parted", (0, 6, 4, 2), (0, True)), ("parted", (6, 4, 2, 0), (0, 1)), ("parted", (0, 6, 4, 2), (1, 0)),
+            ("parted", (0, 6, 4, 2), (0, 0, 1)), ("parted", (0, 6, 4, 2), (0, 1, 1)),
             ("parted", (0, 6, 4, 2), ()), ("parted", (0, 6, 4, 2), (0, 1, 2, 3)), ("parted", [0, 6, 4, 2], (0, 1)),
             ("parted", (0, 6, 4, 2), [0, 1]), ("parted", (1, 3), (0, 1)), ("parted", (), (0, 1)), right[0]])
         check_bools(self, lambda value: is_block_paper(Web(FOUR), value), [

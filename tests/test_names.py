@@ -150,7 +150,8 @@ class Carryings(unittest.TestCase):
         two = Web((2, 3, 0, 1))
         wrong = KINDS + [[0, 1, 2], [0, 1, 2, 3, 4], [0, 1, 3, 2], [0, 1, 2, 2], [0, 1, 2, True], [False, 1, 2, 3],
                          (0, True, 2, 3), [0, 1, 2, "3"], [0, 1, 2, None], [0, 1, 2, [3]], "0123", b"0123",
-                         {0: 0, 1: 1, 2: 2, 3: 3}, [0, 1, 2, -1], [1, 0, 2, 3], [2, 0, 3, 1], [0, 1, 2, 4]]
+                         {0: 0, 1: 1, 2: 2, 3: 3}, [0, 1, 2, -1], [1, 0, 2, 3], [2, 0, 3, 1], [0, 1, 2, 4],
+                         [0, 1, 2, 3, 0, 1], (2, 3, 0, 1, 2, 3, 0, 1), [0, 1]]
         check_bools(self, lambda value: is_carrying(two, two, value), wrong)
         check_bools(self, lambda value: is_carrying(two, Web(model.ring(3)), value), wrong + [[0, 1, 2, 3]])
         check_bools(self, lambda value: is_carrying(two, Web((2, 1, 3, 0)), value), wrong + [[0, 1, 2, 3]])
@@ -222,7 +223,8 @@ class Called(unittest.TestCase):
     def test_wrong_values(self):
         wrong = KINDS + [[0, 1, 2], [0, 1, 2, 3, 4], [0, 1, 2, 2], [0, 1, 2, True], [False, 1, 2, 3], (0, True, 2, 3),
                          [0, 1, 2, "3"], [0, 1, 2, None], [0, 1, 2, [3]], "0123", b"0123", [0, 1, 2, -1],
-                         {0: 0, 1: 1, 2: 2, 3: 3}, [0, 2, 1, 3], [3, 1, 2, 0], [0, 1, 2, 4], [-1, 1, 2, 3]]
+                         {0: 0, 1: 1, 2: 2, 3: 3}, [0, 2, 1, 3], [3, 1, 2, 0], [0, 1, 2, 4], [-1, 1, 2, 3],
+                         [0, 1, 2, 3, 0, 1], (2, 3, 0, 1, 2, 3, 0, 1), [0, 1]]
         check_wrong(self, called, {"web": Web((2, 3, 0, 1)), "darts": [1, 0, 2, 3]}, {
             "web": webs_and(), "darts": plain(wrong, "InvalidDarts")})
         empty = [value for value in KINDS if value not in ([], ())]

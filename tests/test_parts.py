@@ -21,6 +21,7 @@ PRISM = model.grown(9, 5)
 def wrong_parts(turn):
     """Values that are no parts of the block, ties that look like it among them."""
     told = [list(ties) for ties in model.parts(turn)[:4]] + [ties[::-1] for ties in model.parts(turn) if len(ties) > 1]
+    told += [ties[:at] + ties[at - 1:] for ties in model.parts(turn) for at in range(1, len(ties) + 1)]
     ties = tuple(range(len(turn) // 2))
     return [value for value in KINDS if value not in model.parts(turn)] + told + [
         ties, (), (True,), (False,), (-1,), (len(ties),), (10 ** 29,), ("0",), ((0,),), ([0],), (0, 0), (0, None),

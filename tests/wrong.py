@@ -77,7 +77,7 @@ def check_wrong(case, call, good, wrong):
     parameters lists of (value, error, attributes).
     """
     names = list(good)
-    call(*good.values())
+    case.assertEqual(repr_of(call(**good)), repr_of(call(*good.values())))
     case.assertEqual([key for key in wrong if key not in names], [])
     for key in wrong:
         for value, error, attributes in wrong[key]:
