@@ -37,6 +37,12 @@ STORED = {"zip", "enumerate", "reversed", "range"}
 BARRED = ("mro", "elements", "open", "input", "law", "version_info", "with_traceback", "add_note", "eval", "exec",
           "compile", "globals", "locals", "vars", "dir", "help", "exit", "breakpoint", "importlib", "gc", "os",
           "builtins", "delattr", "attrgetter", "methodcaller")
+NO_BEGINNINGS = ("_wall", "_pe_", "_dcw_", "_enum_", "_cm_", "_twin_re_", "_lay_", "_law_", "_stub_", "_sre",
+                 "_WallAttr")
+NO_NAMES = ("_cold", "_tuplegetter", "_outside", "_record", "_written_out", "_member_names")
+DOUBLE = set("""__init__ __eq__ __repr__ __str__ __len__ __enter__ __exit__ __call__ __iter__ __lt__ __le__ __gt__ __ge__
+__ne__ __add__ __sub__ __mul__ __floordiv__ __mod__ __pow__ __and__ __or__ __xor__ __lshift__ __rshift__ __neg__ __pos__
+__invert__ __abs__ __bool__ __contains__ __getitem__ __setitem__ __all__ __version__ __name__""".split())
 
 
 class File:
@@ -167,6 +173,54 @@ def look_at_names(file):
             file.say("L15", 1, f"{name} is a builtin or a barred name")
 
 
+def all_names(node):
+    """Each name that the node has, as what it may be."""
+    if isinstance(node, ast.Name):
+        yield node.id
+    if isinstance(node, (ast.FunctionDef, ast.ClassDef)):
+        yield node.name
+    if isinstance(node, ast.arg):
+        yield node.arg
+    if isinstance(node, ast.Attribute):
+        yield node.attr
+    if isinstance(node, ast.keyword) and node.arg:
+        yield node.arg
+    if isinstance(node, ast.alias):
+        yield from node.name.split(".") + ([node.asname] if node.asname else [])
+    if isinstance(node, ast.ImportFrom) and node.module:
+        yield from node.module.split(".")
+    if isinstance(node, ast.ExceptHandler) and node.name:
+        yield node.name
+    if isinstance(node, (ast.Global, ast.Nonlocal)):
+        yield from node.names
+    if isinstance(node, (ast.MatchAs, ast.MatchStar)) and node.name:
+        yield node.name
+
+
+def breaks_l12(name):
+    """Whether L12 lets no name be such (what it lets as attributes alone is not let at all here)."""
+    if name in ("_", "__future__") or name in DOUBLE:
+        return False
+    plain = all(sign.isascii() and (sign.isalnum() or sign == "_") for sign in name)
+    first = name[1:2] if name.startswith("_") else name[:1]
+    bare = name.rstrip("_0123456789")
+    return not plain or not first.isalpha() or name.startswith(NO_BEGINNINGS) or bare in NO_NAMES
+
+
+def look_at_plain_names(file):
+    for node in ast.walk(file.tree):
+        for name in all_names(node):
+            if breaks_l12(name):
+                file.say("L12", node, f"{name} is no name that may stand")
+        if isinstance(node, ast.ClassDef) and node.name.startswith("_"):
+            file.say("L12", node, "the name of a class begins with a letter")
+        if isinstance(node, ast.Name) and node.id == "_" and isinstance(node.ctx, ast.Load):
+            file.say("L12", node, "_ is never read")
+    for at, line in enumerate(file.text.split("\n"), 1):
+        if "_wall" in line or "_WallAttr" in line:
+            file.say("L12", at, "a word that stands nowhere")
+
+
 def look_at_node(file, node, methods):
     if isinstance(node, (ast.AsyncFunctionDef, ast.Await, ast.AsyncFor, ast.AsyncWith)):
         file.say("L6", node, "no async")
@@ -240,6 +294,7 @@ def main(folder):
         look_at_imports(file, files)
         look_at_top(file)
         look_at_names(file)
+        look_at_plain_names(file)
         look_at_strings(file)
         for node in ast.walk(file.tree):
             look_at_node(file, node, methods)

@@ -122,7 +122,7 @@ def _row_back(web, step, darts):
     """The row that leads back up to the web, and the darts that carry what it makes to the web."""
     if step[0] == "stretch":
         return _stretch_back(step[1], darts)
-    return _lay_back(web, step[1], darts)
+    return _laid_back(web, step[1], darts)
 
 
 def _called_up(darts, tie):
@@ -142,7 +142,7 @@ def _stretch_back(place, darts):
     return ("stretch", at // 2), up + [gone, gone ^ 1]
 
 
-def _lay_back(web, tie, darts):
+def _laid_back(web, tie, darts):
     up = _called_up(darts, tie)
     ahead = [rotated(web.place(dart), dart)[-1] for dart in (2 * tie, 2 * tie + 1)]
     return ("lay", up.index(ahead[0]), up.index(ahead[1])), up + [2 * tie, 2 * tie + 1]
