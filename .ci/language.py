@@ -228,6 +228,10 @@ def look_at_node(file, node, methods):
         file.say("L7", node, "no float")
     if isinstance(node, (ast.BinOp, ast.AugAssign)) and isinstance(node.op, (ast.Div, ast.MatMult)):
         file.say("L7", node, "no / and no @")
+    if isinstance(node, ast.BinOp) and isinstance(node.op, ast.Pow):
+        power = node.right.value if isinstance(node.right, ast.Constant) else -1
+        if not isinstance(power, int) or not 0 <= power <= 64:
+            file.say("L27", node, "an exponent is a literal from 0 to 64")
     if isinstance(node, ast.Name) and isinstance(node.ctx, ast.Load) and hasattr(builtins, node.id):
         if node.id not in ALLOWED_BUILTINS:
             file.say("L8", node, f"{node.id} is not used")
@@ -259,7 +263,7 @@ def look_at_call(file, node, methods):
     if name in STORED or (isinstance(node.func, ast.Attribute) and node.func.attr in ("items", "keys", "values")):
         over = isinstance(at, (ast.For, ast.comprehension, ast.Compare, ast.Subscript, ast.YieldFrom))
         given = isinstance(at, ast.Call) and (
-            (isinstance(at.func, ast.Name) and at.func.id in AT_ONCE | {"deque", "map", "chain", "product"})
+            (isinstance(at.func, ast.Name) and at.func.id in AT_ONCE | {"deque", "map", "chain", "product", "combinations"})
             or (isinstance(at.func, ast.Attribute) and at.func.attr == "join"))
         if not over and not given and not isinstance(at, ast.Assign):
             file.say("L23", node, "this is iterated at once")

@@ -1,8 +1,10 @@
-"""What is asked of darts, corners and sizes of webs ahead of all else."""
+"""What is asked of darts, corners, sizes and limits ahead of all else."""
 
-from neverfewer.errors import InvalidCorner, InvalidDart, TooMany
+from neverfewer.errors import InvalidCorner, InvalidDart, InvalidLimit, TooMany
 from neverfewer.values import is_below
 from neverfewer.webs import MOST_TIES
+
+MOST_CHARTS = 40
 
 
 def check_dart(web, dart):
@@ -26,3 +28,9 @@ def check_room(many):
     """Raises TooMany if a web of so many ties would be too large."""
     if many > MOST_TIES:
         raise TooMany("ties", MOST_TIES)
+
+
+def check_limit(limit):
+    """Raises InvalidLimit unless it is an INTEGER from 1 to the most charts of a lot that are told."""
+    if not is_below(limit, MOST_CHARTS + 1) or limit == 0:
+        raise InvalidLimit(limit)

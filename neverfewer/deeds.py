@@ -10,7 +10,7 @@ from neverfewer.webs import behind
 def is_deeds(web, value):
     """Whether any value is a list of deeds that can be done to the block."""
     check_block(web)
-    return is_list(value) and len(_webs_behind(web, value)) > len(value)
+    return is_list(value) and len(webs_behind(web, value)) > len(value)
 
 
 def deeds_done(web, deeds):
@@ -29,13 +29,13 @@ def deeds_back(web, deeds):
 def _checked_webs(web, deeds):
     if not is_list(deeds):
         raise InvalidDeeds(0)
-    webs = _webs_behind(web, deeds)
+    webs = webs_behind(web, deeds)
     if len(webs) <= len(deeds):
         raise InvalidDeeds(len(webs) - 1)
     return webs
 
 
-def _webs_behind(web, deeds):
+def webs_behind(web, deeds):
     """The list of the web and of what each deed makes, up to the first that cannot be done."""
     webs = [web]
     for deed in deeds:

@@ -26,6 +26,14 @@ def check_block(web):
         raise NotBlock()
 
 
+def check_blocks(web, other):
+    """Raises InvalidWeb unless both are Webs, then NotBlock unless both are blocks."""
+    check_web(web)
+    check_web(other)
+    check_block(web)
+    check_block(other)
+
+
 def _check_chart(web):
     """Raises InvalidWeb unless it is a Web, NotChart unless it is a chart."""
     if not is_chart(web):

@@ -58,7 +58,7 @@ def taken(web, tie):
     check_tie(web, tie)
     if is_bridge(web, tie):
         raise Parted()
-    return Web(_turn_without(web.places(), tie))
+    return Web(turn_without(web.places(), (tie,)))
 
 
 def shrunk(web, tie):
@@ -69,11 +69,11 @@ def shrunk(web, tie):
         raise IsLoop()
     one, far = web.place(2 * tie), web.place(2 * tie + 1)
     others = [place for place in web.places() if place != one and place != far]
-    return Web(_turn_without(others + [rotated(one, 2 * tie) + rotated(far, 2 * tie + 1)], tie))
+    return Web(turn_without(others + [rotated(one, 2 * tie) + rotated(far, 2 * tie + 1)], (tie,)))
 
 
-def _turn_without(places, tie):
-    """The turn of the places without the darts of the tie, the other ties called anew."""
+def turn_without(places, ties):
+    """The turn of the places without the darts of these ties, the other ties called anew."""
     many = sum([len(place) for place in places]) // 2
-    kept = [[dart for dart in place if dart // 2 != tie] for place in places]
-    return turn_of(ties_called(kept, other_ties(many, (tie,))))
+    kept = [[dart for dart in place if dart // 2 not in ties] for place in places]
+    return turn_of(ties_called(kept, other_ties(many, ties)))

@@ -11,6 +11,11 @@ def is_below(value, limit):
     return is_integer(value) and 0 <= value < limit
 
 
+def is_mark(value):
+    """Whether the value is a MARK."""
+    return is_integer(value) and value in (1, -1)
+
+
 def is_list(value):
     """Whether the value is a list, or a tuple in the place of one."""
     return isinstance(value, (list, tuple))
