@@ -60,11 +60,14 @@ def _starts(pieces):
 def _step(web):
     """A tie, and the ties past which it comes to stand beside bare ones; None if the block is gathered."""
     for pieces in _rows(web):
-        starts = _starts(pieces)
-        if len(starts) >= 2:
-            between = [piece for piece in pieces[starts[0]:starts[1]] if not _is_bare(piece)]
-            # Past all of these at once, so that each tie is led but once.
-            return pieces[starts[1]][0], tuple(sorted([tie for piece in between for tie in piece]))
+        if len(_starts(pieces)) >= 2:
+            # The ties that stand with the least one stay, and each other one is led to them but once,
+            # past all that is between.
+            at = pieces.index(min([piece for piece in pieces if _is_bare(piece)]))
+            round_on = pieces[at:] + pieces[:at]
+            next_at = [start for start in _starts(round_on) if start > 0][0]
+            between = [piece for piece in round_on[:next_at] if not _is_bare(piece)]
+            return round_on[next_at][0], tuple(sorted([tie for piece in between for tie in piece]))
     return None
 
 
@@ -96,9 +99,9 @@ def _check_gathered(web):
 def led(web, bare, piece):
     """The web that the lead makes."""
     _check_gathered(web)
-    if not is_ties(bare, web.many) or not is_ties(piece, web.many) or (bare, piece) not in leads(web):
+    rows = [ties for ties, one in led_rows(web) if one == piece and tuple(sorted(ties)) == bare]
+    if not is_ties(bare, web.many) or not is_ties(piece, web.many) or not rows:
         raise NotLead(bare, piece)
-    row = [ties for ties, one in led_rows(web) if one == piece and tuple(sorted(ties)) == bare][0]
-    for tie in row:
+    for tie in rows[0]:
         web = flype_done(web, tie, piece)
     return web

@@ -13,12 +13,14 @@ def joints(web):
 
 def reached(web, ties, barred):
     """The ties that are reached from these without going through a barred place."""
+    places = web.places()
+    at = positions(places)
     found = list(ties)
     done = 0
     while done < len(found):
         tie = found[done]
         for dart in (2 * tie, 2 * tie + 1):
-            place = web.place(dart)
+            place = places[at[dart]]
             if place not in barred:
                 news = [one // 2 for one in place if one // 2 not in found]
                 found.extend(sorted(set(news)))
