@@ -4,6 +4,7 @@ A drawing is a pair of a turn and a tuple of marks. It goes on where model.py en
 the package.
 """
 
+from functools import lru_cache
 from itertools import product
 from random import Random
 
@@ -286,3 +287,214 @@ def wandered(drawing, seed, many, most=14):
         moves.append(move)
         found.append(moved(found[-1], move))
     return moves, found
+
+
+# Cords, directions, signs [11], [5b]
+
+def ends_joined(turn):
+    """Each end with the one to which a corner joins it."""
+    to = {}
+    for dart in range(len(turn)):
+        to[2 * dart] = 2 * turn[dart] + 1
+        to[2 * turn[dart] + 1] = 2 * dart
+    return to
+
+
+def way_from(turn, end):
+    """The ends by which the cord comes in that comes in by this one, from it on."""
+    to, found = ends_joined(turn), [end]
+    while to[found[-1] ^ 2] != end:
+        found.append(to[found[-1] ^ 2])
+    return tuple(found)
+
+
+def told_cord(ends):
+    """A cord that comes in by these ends, one behind the other, as it is told."""
+    back = [end ^ 2 for end in reversed(ends)]
+    row = min((list(ends), back), key=min)
+    return model.from_on(row, min(row))
+
+
+def cords(turn):
+    return sorted({told_cord(way_from(turn, end)) for end in range(2 * len(turn))}) or [()]
+
+
+def all_directions(turn):
+    return list(product((0, 1), repeat=len(cords(turn))))
+
+
+def came_in(turn, directions):
+    """All ends by which cords come in."""
+    return {end ^ 2 if way else end for cord, way in zip(cords(turn), directions) for end in cord}
+
+
+def directions_of(turn, ends):
+    """The directions by which cords come in by just these ends."""
+    found = [ways for ways in all_directions(turn) if came_in(turn, ways) == set(ends)]
+    return found[0]
+
+
+def entered(turn, directions, tie):
+    return tuple(sorted(end for end in came_in(turn, directions) if end // 4 == tie))
+
+
+def signs(drawing, directions):
+    turn, marks = drawing
+    found = []
+    for tie, mark in enumerate(marks):
+        one, other = entered(turn, directions, tie)
+        found.append(mark if {one, other} in ({4 * tie, 4 * tie + 1}, {4 * tie + 2, 4 * tie + 3}) else -mark)
+    return found
+
+
+def over_end(drawing, directions, tie):
+    return [end for end in entered(drawing[0], directions, tie) if end % 2 == (0 if drawing[1][tie] == 1 else 1)][0]
+
+
+def crossings(turn, one, other):
+    """The ties at which both of two cords come in, by their positions."""
+    rows = [{end // 4 for end in cords(turn)[at]} for at in (one, other)]
+    return rows[0] & rows[1]
+
+
+def linking(drawing, directions, one, other):
+    total = sum(signs(drawing, directions)[tie] for tie in crossings(drawing[0], one, other))
+    assert total % 2 == 0
+    return total // 2
+
+
+def is_even(turn, ties):
+    """Whether each place has an even number of darts of these ties."""
+    return all(len([dart for dart in row if dart // 2 in ties]) % 2 == 0 for row in model.places(turn))
+
+
+def is_cut(turn, ties):
+    """Whether these are just the ties that lead from some places to the others."""
+    rows = model.places(turn)
+    for some in model.subsets(rows):
+        across = [tie for tie in range(len(turn) // 2)
+                  if (model.place(turn, 2 * tie) in some) != (model.place(turn, 2 * tie + 1) in some)]
+        if tuple(across) == tuple(ties):
+            return True
+    return False
+
+
+# Sums of powers, as dicts, states, brackets [6a]
+
+def cleaned(numbers):
+    return {exponent: number for exponent, number in sorted(numbers.items()) if number}
+
+
+def added(one, other, factor=1):
+    return cleaned({key: one.get(key, 0) + factor * other.get(key, 0) for key in {*one, *other}})
+
+
+def multiplied(one, other):
+    total = {}
+    for left in one:
+        for right in other:
+            total[left + right] = total.get(left + right, 0) + one[left] * other[right]
+    return cleaned(total)
+
+
+def mirrored(one):
+    return cleaned({-exponent: number for exponent, number in one.items()})
+
+
+def circles(turn, kept):
+    if not turn:
+        return 1
+    to, found = ends_joined(turn), 0
+    left = set(range(2 * len(turn)))
+    while left:
+        found += 1
+        end = min(left)
+        while end in left:
+            tie, at = divmod(end, 4)
+            far = 4 * tie + ({1: 2, 2: 1, 3: 0, 0: 3} if tie in kept else {0: 1, 1: 0, 2: 3, 3: 2})[at]
+            left -= {end, far}
+            end = to[far]
+    return found
+
+
+def bracket(drawing):
+    turn, marks = drawing
+    total = {}
+    for kept in model.subsets(range(len(marks))):
+        term = {sum(mark if tie in kept else -mark for tie, mark in enumerate(marks)): 1}
+        for _ in range(circles(turn, kept) - 1):
+            term = multiplied(term, {2: -1, -2: -1})
+        total = added(total, term)
+    return total
+
+
+def normed(drawing, directions):
+    total = sum(signs(drawing, directions))
+    return {exponent - 3 * total: -number if total % 2 else number for exponent, number in bracket(drawing).items()}
+
+
+# Trees [6b]
+
+@lru_cache(None)
+def trees(turn):
+    """Ties of which no ring can be made, and which lead from each place to each other one."""
+    rows = [set(row) for row in model.rings(turn)]
+    return sorted(
+        ties for ties in model.subsets(range(len(turn) // 2))
+        if not any(row <= set(ties) for row in rows) and len(pieces(turn, ties)) == 1
+    )
+
+
+def pieces(turn, ties):
+    """The places, in sets such that these ties lead from each to each other one of the set."""
+    found = [{row} for row in model.places(turn)]
+    for tie in ties:
+        both = [piece for piece in found if piece & model.tie_places(turn, [tie])]
+        found = [piece for piece in found if piece not in both] + [set().union(*both)]
+    return found
+
+
+def active(turn, order, tree):
+    many = len(turn) // 2
+    order = list(order)
+    inner, outer = [], []
+    for tie in range(many):
+        if tie in tree:
+            one, other = pieces(turn, [row for row in tree if row != tie])
+            rivals = [rival for rival in range(many) if all(
+                model.tie_places(turn, [rival]) & piece for piece in (one, other))]
+            found = inner
+        else:
+            ring, = [row for row in model.rings(turn) if tie in row and set(row) <= {tie, *tree}]
+            rivals, found = list(ring), outer
+        if min(rivals, key=order.index) == tie:
+            found.append(tie)
+    return tuple(inner), tuple(outer)
+
+
+def table(turn, order):
+    found = {}
+    for tree in trees(turn):
+        inner, outer = active(turn, order, tree)
+        found[len(inner), len(outer)] = found.get((len(inner), len(outer)), 0) + 1
+    return sorted(found.items())
+
+
+def weight(drawing, order, tree):
+    """The product of what all ties weigh for the tree."""
+    turn, marks = drawing
+    inner, outer = active(turn, order, tree)
+    term = {0: 1}
+    for tie, mark in enumerate(marks):
+        if tie in tree:
+            term = multiplied(term, {-3 * mark: -1} if tie in inner else {mark: 1})
+        else:
+            term = multiplied(term, {3 * mark: -1} if tie in outer else {-mark: 1})
+    return term
+
+
+def bracket_by_trees(drawing, order):
+    total = {}
+    for tree in trees(drawing[0]):
+        total = added(total, weight(drawing, order, tree))
+    return total

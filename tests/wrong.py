@@ -115,6 +115,10 @@ def repr_of(value):
         return "(" + "".join(repr_of(one) + ", " for one in value) + ")"
     if hasattr(value, "turn"):
         return "Web" + repr(value.turn())
+    if hasattr(value, "marks"):
+        return "Drawing" + repr((value.web().turn(), value.marks()))
+    if hasattr(value, "terms"):
+        return "Laurent" + repr(value.terms())
     return repr(value)
 
 
