@@ -20,7 +20,7 @@ def active(web, order, tree):
     check_web(web)
     check_order(web, order)
     check_tree(web, tree)
-    return _active_of(web, list(order), tree)
+    return _active_of(web, order, tree)
 
 
 def _active_of(web, order, tree):
@@ -49,7 +49,7 @@ def table(web, order):
     check_order(web, order)
     found = {}
     for tree in trees(web):
-        inner, outer = _active_of(web, list(order), tree)
+        inner, outer = _active_of(web, order, tree)
         key = (len(inner), len(outer))
         found[key] = found.get(key, 0) + 1
     return sorted([(key, found[key]) for key in found])
@@ -61,7 +61,7 @@ def bracket_by_trees(drawing, order):
     check_order(drawing.web(), order)
     found = {}
     for tree in trees(drawing.web()):
-        inner, outer = _active_of(drawing.web(), list(order), tree)
+        inner, outer = _active_of(drawing.web(), order, tree)
         exponent = sum([mark * _power(tie, tree, inner, outer) for tie, mark in enumerate(drawing.marks())])
         sign = -1 if (len(inner) + len(outer)) % 2 else 1
         found[exponent] = found.get(exponent, 0) + sign

@@ -48,9 +48,10 @@ def bracket(drawing):
 
 
 def _bracket_of(drawing):
-    loops = _powers(drawing.many + 1)
+    loops = _powers(drawing.many)
+    told = _states_told(drawing)
     sums = {}
-    for (exponent, many), states in _states_told(drawing).items():
+    for (exponent, many), states in told.items():
         sums[many] = sums.get(many, Laurent(0, [])) + laurent_of({exponent: states})
     whole = Laurent(0, [])
     for many in sums:

@@ -232,7 +232,7 @@ class Leads(unittest.TestCase):
         not_gathered = NOT_BLOCK + [(Web(APART), "NotGathered", {})]
         check_wrong(self, leads, {"web": web}, {"web": webs_and(*not_gathered)})
         ties = [value for value in KINDS + [[0, 1], (1, 0), (0, 1, 1), (False, True), (0,), (1,), (2,), (4, 5), (0, 2)]]
-        pieces = [value for value in KINDS + [[2, 3], (3, 2), (2, 3, 4), (2,), (0, 1), (2, 3.5 // 1 and 4), (1,)]]
+        pieces = [value for value in KINDS + [[2, 3], (3, 2), (2, 3, 4), (2,), (0, 1), (2, 4), (1,)]]
         wrong = {"bare": [(value, "NotLead", {"bare": value, "piece": (2, 3)}) for value in ties]}
         check_wrong(self, led, {"web": web, "bare": (0, 1), "piece": (2, 3)}, {"web": webs_and(*not_gathered), **wrong})
         wrong = {"piece": [(value, "NotLead", {"bare": (0, 1), "piece": value}) for value in pieces]}
@@ -244,6 +244,10 @@ class Leads(unittest.TestCase):
         self.assertEqual(bare, (0,))
         check_raised(self, ("NotLead", {"bare": (False,), "piece": piece}), led, one, (False,), piece)
         check_raised(self, ("NotLead", {"bare": piece, "piece": bare}), led, one, piece, bare)
+        shifted = Web(model.called(BASE, [(dart - 4) % 12 for dart in range(12)]))
+        self.assertEqual(leads(shifted), [((4, 5), (0, 1)), ((4, 5), (2, 3))])
+        for value in ((False, True), (0, True), (False, 1), [0, 1]):
+            check_raised(self, ("NotLead", {"bare": (4, 5), "piece": value}), led, shifted, (4, 5), value)
 
     def test_no_bare_tie_and_no_second_piece(self):
         for turn in (lot_model.necklace(PAIR, PAIR, PAIR), lot_model.beside(ROW, WIDE, LONG)):

@@ -96,7 +96,15 @@ class IsMove(unittest.TestCase):
                 ("undouble", 0), ("undouble", 1, 0), ("undouble", 0, 0), ("undouble", False, True), ("undouble", 0, True),
                 ("unsplit", False, 2), ("unsplit", 2, 0), ("unsplit", 0, 2, 1), ("unsplit", 0, None), ("star", False),
                 ("star", True), ("star", 2), ("star", 0, 1), ("star", None), ("triangle", True), ("triangle", "0"),
-                ("move", 0, 1), ("loops", 0, 1), (("loop",), 0, 1), (["loop"], 0, 1), "loop", "star"])
+                ("move", 0, 1), ("move", 0), ("face", 1), ("Star", 0), (None, 0), ("loops", 0, 1), (("loop",), 0, 1), (["loop"], 0, 1), "loop", "star"])
+
+    def test_words_of_three_ties(self):
+        star = moved(made(MIXED), ("star", 0))
+        check_bools(self, lambda value: is_move(star, value), [
+            (word, 1) for word in ("star", "Triangle", "face", "place", "", None, 1, b"triangle", ("triangle",))])
+        check_bools(self, lambda value: is_move(made(MIXED), value), [
+            (word, 0) for word in ("triangle", "Star", "face", "place", "", None, 0, b"star", ["star"])])
+        self.assertEqual([is_move(star, ("triangle", 1)), is_move(made(MIXED), ("star", 0))], [True, True])
 
     def test_wrong_values(self):
         check_wrong(self, is_move, {"drawing": made(MIXED), "value": None}, {

@@ -66,7 +66,7 @@ class Plain(unittest.TestCase):
             self.assertTrue(lot_model.is_gathered(plain(Web(turn))))
 
     def test_a_gathered_block_that_deeds_lead_to(self):
-        for turn in LARGE:
+        for turn in LARGE[::2]:
             last = deeds_done(Web(turn), gathering(Web(turn)))[-1]
             self.assertIs(is_gathered(last), True)
             self.assertEqual(plain(last), plain(Web(turn)))
@@ -111,7 +111,7 @@ class AreOne(unittest.TestCase):
                     self.assertIs(are_one(Web(one), Web(other)), False)
 
     def test_what_deeds_lead_to(self):
-        for seed, turn in enumerate(LARGE):
+        for seed, turn in enumerate(LARGE[1::2]):
             web, other = Web(turn), Web(wandered(turn, seed + 9))
             self.assertEqual([are_one(web, other), are_one(other, web), are_one(web, web)], [True] * 3)
             self.assertIs(are_one(web=web, other=behind(other)), True)
