@@ -108,7 +108,7 @@ def _carried(deed, darts):
 def is_decision(web, other, value):
     """Whether any value is a decision of the block and the other one."""
     check_blocks(web, other)
-    if not isinstance(value, tuple) or not value:
+    if not isinstance(value, tuple):
         return False
     if len(value) == 3 and is_word(value[0], ("one",)):
         return _leads_to(web, other, value[1], value[2])
