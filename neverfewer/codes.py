@@ -5,7 +5,7 @@ from neverfewer.drawings import Drawing
 from neverfewer.errors import InvalidRows, NotOne
 from neverfewer.signs import signs
 from neverfewer.values import is_below, is_list, is_mark, is_word
-from neverfewer.webs import MOST_TIES, Web, check_web, is_turn
+from neverfewer.webs import MOST_TIES, Web, is_turn
 
 WORDS = ("over", "under")
 
@@ -45,11 +45,10 @@ def drawing_of(rows):
     """A drawing and directions whose rows are the SAME as these."""
     if not _are_rows(rows):
         raise InvalidRows(rows)
-    passes = [step for row in rows for step in row]
-    if not passes and len(rows) == 1:
+    if len(rows) == 1 and not rows[0]:
         return Drawing(Web(()), ()), (0,)
-    marks = _marks_of(rows, len(passes) // 2)
-    if not passes or not all([len(row) > 0 for row in rows]) or marks is None:
+    marks = _marks_of(rows)
+    if marks is None:
         raise InvalidRows(rows)
     ways = [[_end_in(step, marks[step[0]]) for step in row] for row in rows]
     turn = _turn_along(ways, 2 * len(marks))
@@ -64,17 +63,12 @@ def _are_rows(value):
     if not is_list(value) or not all([is_list(row) for row in value]):
         return False
     passes = [step for row in value for step in row]
-    if len(passes) % 2 == 1 or len(passes) > 2 * MOST_TIES:
+    many = len(passes) // 2
+    if many > MOST_TIES or not all([_is_pass(step, many) for step in passes]):
         return False
-    if not all([_is_pass(step, len(passes) // 2) for step in passes]):
-        return False
-    signs_by_pass = {(tie, word): sign for tie, word, sign in passes}
-    ties = range(len(passes) // 2)
-    # There are as many passes as ties and words; so if none is missing, each stands there once.
-    return all([
-        (tie, "over") in signs_by_pass and signs_by_pass.get((tie, "under")) == signs_by_pass[(tie, "over")]
-        for tie in ties
-    ])
+    told = {(tie, word): sign for tie, word, sign in passes}
+    # There are no more ties with words than passes; so if none stands there twice, each stands there once.
+    return len(told) == len(passes) and all([told[(tie, "over")] == told[(tie, "under")] for tie in range(many)])
 
 
 def _is_pass(value, many):
@@ -84,21 +78,19 @@ def _is_pass(value, many):
     return is_below(value[0], many) and is_word(value[1], WORDS) and is_mark(value[2])
 
 
-def _marks_of(rows, many):
-    """Marks of so many ties by which even and odd ends follow one another along each row; None if there are none."""
-    if many == 0:
+def _marks_of(rows):
+    """Marks by which even and odd ends follow one another along each row; None if there are none."""
+    many = sum([len(row) for row in rows]) // 2
+    if not rows or not all([len(row) > 0 for row in rows]):
         return None
     pairs = [(row[at - 1], step) for row in rows for at, step in enumerate(row)]
     marks = {0: 1}
     # What hangs together has its marks by one of them; what does not makes no web.
     for _ in range(many):
         for one, two in pairs:
-            # Over by an even end, and then under by an odd one: the marks are alike.
-            factor = 1 if one[1] != two[1] else -1
             if one[0] in marks and two[0] not in marks:
-                marks[two[0]] = factor * marks[one[0]]
-            if two[0] in marks and one[0] not in marks:
-                marks[one[0]] = factor * marks[two[0]]
+                # Over by an even end, and then under by an odd one: the marks are alike.
+                marks[two[0]] = marks[one[0]] if one[1] != two[1] else -marks[one[0]]
     if len(marks) < many or not all([_alternate(one, two, marks) for one, two in pairs]):
         return None
     return [marks[tie] for tie in range(many)]
@@ -135,7 +127,6 @@ def _directions_of(web, ends):
 
 def even_numbers(web):
     """The list of the even numbers of the ties that have the odd numbers 1, 3, 5, .."""
-    check_web(web)
     found = cords(web)
     if len(found) != 1:
         raise NotOne()

@@ -32,19 +32,17 @@ def _parts_of(command):
     word, blank, left = command.partition(" ")
     if word == "draw":
         name, blank, text = left.partition(" ")
-        return (word, name, text) if blank and is_name(name) else None
+        return (word, name, text) if blank and _is_name(name) else None
     words = command.split(" ")
     if word in ("move", "claim") and len(words) > 2:
         told = _read(words[2:], MOVES.get(words[2]) if word == "move" else CLAIMS.get(words[2]))
-        return (word, words[1], told) if told is not None and is_name(words[1]) else None
+        return (word, words[1], told) if told is not None and _is_name(words[1]) else None
     return _read(words, COMMANDS.get(word))
 
 
-def is_name(value):
-    """Whether any value is a NAME, or a LABEL."""
-    if not isinstance(value, str) or not 1 <= len(value) <= MOST_LETTERS:
-        return False
-    return all([sign in LETTERS for sign in value])
+def _is_name(word):
+    """Whether the word is a NAME, or a LABEL."""
+    return 1 <= len(word) <= MOST_LETTERS and all([sign in LETTERS for sign in word])
 
 
 def _read(words, shape):
@@ -58,7 +56,7 @@ def _read(words, shape):
 def _read_part(kind, word):
     """What the word tells as a part of this kind; None if it is not written as such."""
     if kind == "w":
-        return word if is_name(word) else None
+        return word if _is_name(word) else None
     if kind == "n":
         return _numeral(word)
     if kind == "t":

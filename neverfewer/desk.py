@@ -65,7 +65,6 @@ def _done(whole, deed):
             raise NothingToRedo()
         return changes(kept, undone[-1]), (undone[-1], past + (kept,), undone[:-1])
     new = deed_done(kept, deed)
-    answer = changes(kept, new)
-    if deed[0] == "claim":
-        answer = sorted(answer + [(deed[1], new[2][deed[1]])])
+    # A new claim changes the state of no other one.
+    answer = [(deed[1], new[2][deed[1]])] if deed[0] == "claim" else changes(kept, new)
     return answer, (new, past + (kept,), ())

@@ -7,8 +7,8 @@ from neverfewer.laurent import Laurent
 from neverfewer.tables import determinant
 
 # In a row of regions the numbers are together 4 at most, without their signs; so in a determinant of 14 rows
-# no number at a power is more than 4 ** 14, which is much less than half of this.
-BASE = 1 << 40
+# no number at a power is more than 4 ** 14, which is much less than half of this (2 ** 40).
+BASE = 1099511627776
 
 
 def region_rows(drawing, directions):
@@ -51,8 +51,6 @@ def second(drawing, directions):
     left = [[row[at] for at in range(len(row)) if at not in gone] for row in rows]
     numbers = _numbers_of(determinant([[plain + power * BASE for plain, power in row] for row in left]))
     found = Laurent(0, numbers)
-    if not found.terms():
-        return found
     found = found.shifted(-found.least)
     return found if found.at(0) > 0 else -found
 

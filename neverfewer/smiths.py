@@ -53,7 +53,7 @@ def _first(row):
 def _merged(row, other):
     """Two rows that begin at one position, changed so that the second one begins behind it."""
     at = _first(row)
-    divisor, x, y = bezout(row[at], other[at])
+    divisor, x, y = _bezout(row[at], other[at])
     up, down = row[at] // divisor, other[at] // divisor
     return _sum_of(x, row, y, other), _sum_of(up, other, -down, row)
 
@@ -62,7 +62,7 @@ def _sum_of(x, row, y, other):
     return [x * one + y * two for one, two in zip(row, other)]
 
 
-def bezout(one, other):
+def _bezout(one, other):
     """The greatest common divisor, and what to multiply both by so that they sum to it; one is not 0."""
     # If the first one divides the other one, it is taken as it is.
     x, y, u, v = 1, 0, 0, 1
@@ -93,25 +93,18 @@ def _cleared(rows):
 def _divided(numbers, left, right):
     """The numbers, changed until each divides the next one, with rows of left and of right along."""
     numbers, left, right = list(numbers), list(left), list(right)
-    for at in range(len(numbers)):
-        for other in range(at + 1, len(numbers)):
-            if not divides(numbers[at], numbers[other]):
-                _divide(numbers, left, right, (at, other))
+    # All numbers that are 0 stand behind the others: rows of 0 alone are the last steps.
+    many = len([number for number in numbers if number != 0])
+    for at in range(many):
+        for other in range(at + 1, many):
+            if numbers[other] % numbers[at] != 0:
+                _divide(numbers, left, right, at, other)
     return numbers, left, right
 
 
-def divides(one, other):
-    """Whether one is a divisor of other; 0 divides 0 alone."""
-    return other == 0 if one == 0 else other % one == 0
-
-
-def _divide(numbers, left, right, pair):
+def _divide(numbers, left, right, at, other):
     """Exchanges two numbers for their greatest common divisor and their least common multiple."""
-    at, other = pair
-    if numbers[at] == 0:
-        divisor, x, y = numbers[other], 0, 1
-    else:
-        divisor, x, y = bezout(numbers[at], numbers[other])
+    divisor, x, y = _bezout(numbers[at], numbers[other])
     up, down = numbers[at] // divisor, numbers[other] // divisor
     one, two = left[at], left[other]
     left[at], left[other] = _sum_of(x, one, y, two), _sum_of(-down, one, up, two)

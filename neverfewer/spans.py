@@ -24,7 +24,6 @@ def even_circles(drawing):
 
 def is_full(drawing):
     """Whether each block of the web has at least two ties, all of one mark."""
-    check_drawing(drawing)
     return span_paper(drawing)[0] == "full"
 
 

@@ -199,7 +199,7 @@ class DrawingOf(unittest.TestCase):
         over, under = (0, "over", 1), (0, "under", 1)
         self.check([[over, under]])
         wrong = [value for value in KINDS if value != ()] + [
-            [[over]], [[under]], [[over, over]], [[under, under]], [[over, under, over, under]], [[over, (0, "under", -1)]],
+            [[over]], [[under]], [[over, under, over]], [[over, under], [under]], [[over, under], []], [[over, over]], [[under, under]], [[over, under, over, under]], [[over, (0, "under", -1)]],
             [[(1, "over", 1), (1, "under", 1)]], [[(0, "over", 1), (1, "under", 1)]], [[list(over), under]], [[over[:2], under]],
             [[over + (0,), under]], [[(False, "over", 1), (False, "under", 1)]], [[(0, "over", True), (0, "under", True)]],
             [[(0, "Over", 1), under]], [[(0, "", 1), under]], [[(0, None, 1), under]], [[(0, ["over"], 1), under]],

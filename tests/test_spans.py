@@ -177,6 +177,11 @@ class Papers(unittest.TestCase):
                     ("full", [(ties[:1] + (True,) + ties[2:], mark) for ties, mark in pairs])]:
                 self.assertIs(is_span_paper(made(drawing), value), False, value)
 
+        three = made((THREE, (1, 1, 1)))
+        self.assertIs(is_span_paper(three, ("full", [((0, 1, 2), 1)])), True)
+        for pair in KINDS + ["ab", ((0, 1, 2),), ((0, 1, 2), 1, 1), {0: (0, 1, 2), 1: 1}, ((0, 1, 2), None), (None, 1), 5]:
+            self.assertIs(is_span_paper(three, ("full", [pair])), False, pair)
+
     def test_wrong_kinds(self):
         for drawing in ((THREE, (1, 1, -1)), ((0, 1), (1,)), ((), ()), CHAINED[1]):
             check_bools(self, lambda value: is_span_paper(made(drawing), value), KINDS)
@@ -192,7 +197,7 @@ class Papers(unittest.TestCase):
         check_bools(self, lambda value: is_span_paper(hung, value), [
             ("less", "single", True), ("less", "single", 0), ("less", "single", (3,)), ("less", "single", "3"),
             ("less", "single", 4), ("less", "single", 3, 3), ("less", "single"), ["less", "single", 3], ("single", 3),
-            ("less", "single", None), ("less", "single", -1), ("full", [((0, 1, 2), 1), ((3,), 1)])])
+            ("less", "single", None), ("less", "single", -1), ("less", "mixed", 3), ("less", "single ", 3), ("less", None, 3), ("full", [((0, 1, 2), 1), ((3,), 1)])])
         loop = made(((0, 1), (1,)))
         self.assertIs(is_span_paper(loop, ("less", "single", 0)), True)
         check_bools(self, lambda value: is_span_paper(loop, value), [("less", "single", False), ("full", [((0,), 1)])])

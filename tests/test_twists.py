@@ -152,6 +152,10 @@ class IsTurnRow(unittest.TestCase):
         for many, is_one in ((0, True), (1, False), (2, True), (200, True), (202, False)):
             value = ([((1, 2), "c")] * many, list(range(8)))
             self.assertIs(is_turn_row(Web(RING), Web(RING), value), is_one)
+        # Three unlike letters one after the other are nothing, too.
+        for many in (196, 198):
+            value = ([((1, 2), "c")] * many + [((1, 2), letter) for letter in "abc"], list(range(8)))
+            self.assertIs(is_turn_row(Web(RING), Web(RING), value), many == 196)
 
     def test_each_tie_keeps_its_number(self):
         # The ring turned round is alike to itself, but not tie by tie.
