@@ -76,7 +76,7 @@ def change(table, other):
     for row in _small_rows(len(table)):
         rows_of.setdefault(_image(table, row), []).append(row)
     firsts = [rows[0] for rows in rows_of.values()]
-    choices = {at: [row for row in firsts if _weight(table, row) == other[at][at]] for at in range(len(other))}
+    choices = {at: [one for one in firsts if _weight(table, one) == other[at][at]] for at in range(len(other))}
     return _completed(table, other, rows_of, {}, choices)
 
 
