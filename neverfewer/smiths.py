@@ -95,11 +95,29 @@ def _divided(numbers, left, right):
     numbers, left, right = list(numbers), list(left), list(right)
     # All numbers that are 0 stand behind the others: rows of 0 alone are the last steps.
     many = len([number for number in numbers if number != 0])
-    for at in range(many):
-        for other in range(at + 1, many):
-            if numbers[other] % numbers[at] != 0:
-                _divide(numbers, left, right, at, other)
+    for at, other in _pairs(many):
+        if numbers[other] % numbers[at] != 0:
+            _divide(numbers, left, right, at, other)
     return numbers, left, right
+
+
+def _pairs(many):
+    """Pairs of positions: any so many numbers come to be sorted if they are put in sequence at these, pair by pair.
+
+    The greatest common divisor and the least common multiple of two numbers have of each prime the lesser and the
+    greater power; so these pairs lead to divisors, too. They are Batcher's merges, in which no number meets many
+    others, so that what is noted beside them stays small.
+    """
+    found, size = [], 1
+    while size < many:
+        step = size
+        while step >= 1:
+            for start in range(step % size, many - step, 2 * step):
+                ends = [(at, at + step) for at in range(start, min(start + step, many - step))]
+                found.extend([(at, end) for at, end in ends if at // (2 * size) == end // (2 * size)])
+            step = step // 2
+        size = 2 * size
+    return found
 
 
 def _divide(numbers, left, right, at, other):
