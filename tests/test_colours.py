@@ -9,6 +9,7 @@ import model
 from neverfewer.colours import arcs, colourings, colourings_many, is_colouring
 from neverfewer.cords import cords
 from neverfewer.drawings import Drawing, plain_drawing
+from neverfewer.flypes import flyped, flypes
 from neverfewer.groups import group
 from neverfewer.webs import Web
 from wrong import KINDS, check_bools, check_kept, check_raised, check_wrong, plain
@@ -92,6 +93,17 @@ class Colourings(unittest.TestCase):
         for drawing in SMALL[::3] + LARGE:
             if colourings_many(made(drawing), 2) <= 400:
                 self.assertEqual(len(colourings(made(drawing), 2)), 2 ** len(cords(Web(drawing[0]))))
+
+    def test_moves_and_flypes_keep_how_many(self):
+        for seed, drawing in enumerate(SMALL[::6]):
+            for other in cord_model.wandered(drawing, seed, 8, 14)[1]:
+                for prime in (2, 3, 5, 13):
+                    self.assertEqual(colourings_many(made(other), prime), colourings_many(made(drawing), prime))
+        for turn in (model.grown(8, 2), model.grown(9, 4), model.grown(10, 1, 0.7)):
+            for tie, ties in flypes(Web(turn))[::3]:
+                for prime in PRIMES:
+                    self.assertEqual(colourings_many(plain_drawing(flyped(Web(turn), tie, ties)), prime),
+                                     colourings_many(plain_drawing(Web(turn)), prime))
 
     def test_sums_and_multiples(self):
         for drawing in SMALL[::4]:

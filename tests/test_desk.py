@@ -332,7 +332,7 @@ class Answers(unittest.TestCase):
     def test_all_or_nothing(self):
         desk = made_of("draw k " + THREE, "claim f full k", "behind k", "undo")
         before = all_told(desk)
-        for commands in (["move k hang 0 +", "move k star 0"], ["undo", "undo", "undo"], ["undo", "redo", "redo", "redo"], ["drop k", "drop k"],
+        for commands in (["behind k", "move k star 0", "behind k"], ["undo", "draw k", "redo"], ["move k hang 0 +", "move k star 0"], ["undo", "undo", "undo"], ["undo", "redo", "redo", "redo"], ["drop k", "drop k"],
                          ["unclaim f", "claim f full k", "claim f full k"], ["draw b :", "draw c x"], ["undo", None], ["redo", "undo", "nothing"]):
             with self.assertRaises((ValueError, LookupError, RuntimeError)):
                 desk.do_all(commands)
