@@ -274,6 +274,26 @@ def look_at_call(file, node, methods):
             file.say("L24", node, "a set stands in sorted(..), in len(..) or beside a comparison")
 
 
+def is_only_read(node):
+    """Whether a list or dict of module level is but read here: by an index, by iteration, by in, by its own methods."""
+    at = node.above
+    if isinstance(at, ast.Attribute):
+        return at.attr in ("get", "items", "keys", "values", "index", "count")
+    if isinstance(at, ast.Call):
+        return isinstance(at.func, ast.Name) and at.func.id in AT_ONCE | {"set"}
+    if isinstance(at, ast.Subscript):
+        return isinstance(at.ctx, ast.Load)
+    return isinstance(at, (ast.Compare, ast.For, ast.comprehension))
+
+
+def look_at_tables(file):
+    tables = {node.targets[0].id for node in file.tree.body
+              if isinstance(node, ast.Assign) and isinstance(node.value, (ast.List, ast.Dict))}
+    for node in ast.walk(file.tree):
+        if isinstance(node, ast.Name) and node.id in tables and isinstance(node.ctx, ast.Load) and not is_only_read(node):
+            file.say("L15", node, f"{node.id} is only read, or passed on as a copy")
+
+
 def look_at_strings(file):
     docs = set()
     for node in ast.walk(file.tree):
@@ -300,6 +320,7 @@ def main(folder):
         look_at_names(file)
         look_at_plain_names(file)
         look_at_strings(file)
+        look_at_tables(file)
         for node in ast.walk(file.tree):
             look_at_node(file, node, methods)
     found = [f"{folder}: L1: {name} is no file of a package" for name in odd]

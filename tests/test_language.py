@@ -51,6 +51,16 @@ class Language(unittest.TestCase):
             printed, is_let = looked_through(text.format("_put_back"))
             self.assertEqual([is_let, "L12" in printed], [True, False], printed)
 
+    def test_lists_of_module_level(self):
+        table = "ROWS = {{1: 2}}\n\n\ndef tell(k):\n    {0}\n"
+        for row in ("return ROWS", "return k(ROWS)", "k = ROWS", "ROWS[k] = 1", "ROWS.update(k)", "return [ROWS]", "return (k, ROWS)"):
+            printed, is_let = looked_through(table.format(row))
+            self.assertEqual([is_let, "L15" in printed or "L25" in printed], [False, True], row)
+        for row in ("return ROWS[k]", "return ROWS.get(k)", "return k in ROWS", "return dict(ROWS)", "return [one for one in ROWS]",
+                    "return len(ROWS)", "return sorted(ROWS)"):
+            printed, is_let = looked_through(table.format(row))
+            self.assertEqual([is_let, "L15" in printed], [True, False], printed)
+
 
 if __name__ == "__main__":
     unittest.main()
